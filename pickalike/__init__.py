@@ -1,0 +1,1 @@
+"""Pickalike: two small worlds, told alike or parted by a saying."""
