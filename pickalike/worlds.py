@@ -109,10 +109,15 @@ def moved(world, order):
     return (many, tuple(new_marks), tuple(new_arrows))
 
 
-def beside(one, other):
-    """Both worlds laid side by side, the points of the other one numbered on."""
+def need_tongue(one, other):
+    """Refuses two worlds that are not of one tongue."""
     if tongue_of(one) != tongue_of(other):
         raise NoTongue("the worlds are not of one tongue")
+
+
+def beside(one, other):
+    """Both worlds laid side by side, the points of the other one numbered on."""
+    need_tongue(one, other)
     first = one[0]
     many = first + other[0]
     if many > MOST_POINTS:

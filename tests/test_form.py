@@ -112,6 +112,38 @@ class FormTest(unittest.TestCase):
                 name = node.arg if isinstance(node, ast.arg) else node.asname or node.name
                 self.assertFalse(name in python or name.startswith("_"), (where, name))
 
+    def test_names_of_a_files_top(self):
+        for file in files():
+            tree = ast.parse(file.read_text("utf-8"))
+            drawn = [alias.name for node in tree.body if isinstance(node, ast.ImportFrom) for alias in node.names]
+            kept = [target.id for node in tree.body if isinstance(node, ast.Assign) for target in node.targets]
+            made = [node.name for node in tree.body if isinstance(node, (ast.FunctionDef, ast.ClassDef))]
+            self.assertEqual(len(drawn + kept + made), len(set(drawn + kept + made)), file.name)
+            for node in [inner for outer in tree.body if isinstance(outer, (ast.FunctionDef, ast.ClassDef))
+                         for inner in ast.walk(outer)]:
+                if isinstance(node, ast.arg):
+                    self.assertNotIn(node.arg, drawn + kept + made, file.name)
+                if isinstance(node, ast.Name) and isinstance(node.ctx, ast.Store):
+                    self.assertNotIn(node.id, drawn + kept + made, file.name)
+
+    def test_no_two_files_draw_from_one_another(self):
+        drawn = {}
+        for file in files():
+            tree = ast.parse(file.read_text("utf-8"))
+            drawn[file.stem] = [node.module.split(".")[-1] for node in tree.body if isinstance(node, ast.ImportFrom)]
+        while drawn:
+            free = [name for name, rest in drawn.items() if not any(other in drawn for other in rest)]
+            self.assertNotEqual(free, [], drawn)
+            for name in free:
+                del drawn[name]
+
+    def test_walked_at_once(self):
+        for where, node in nodes():
+            if isinstance(node, ast.Assign) and isinstance(node.value, ast.Call):
+                call = node.value.func
+                name = call.id if isinstance(call, ast.Name) else call.attr
+                self.assertNotIn(name, ("zip", "enumerate", "reversed", "range", "items", "keys", "values"), where)
+
     def test_methods(self):
         own = {node.name for where, node in nodes() if isinstance(node, ast.FunctionDef)}
         for where, node in nodes():

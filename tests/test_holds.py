@@ -3,13 +3,13 @@
 import itertools
 import unittest
 
+from helper import FALSE, TRUE, made_sayings
+
 from pickalike.errors import NoLetter, NoName
 from pickalike.sayings import depth_of, free_of, holds, is_saying
 
 WORLD = (3, (("blue", ()), ("red", (0, 2))), (("likes", ((0, 1), (1, 1), (1, 2))), ("none", ())))
 MARK = ("mark", "red", "x")
-TRUE = ("and", ())
-FALSE = ("or", ())
 LETTERS = "xyz"
 
 
@@ -30,28 +30,6 @@ def slow_holds(world, saying, places):
     letter, inner = saying[-2:]
     many = sum(slow_holds(world, inner, {**places, letter: point}) for point in range(world[0]))
     return many >= {"some": 1, "every": world[0]}.get(word, saying[1])
-
-
-def made_sayings():
-    """Many sayings with the letters x, y and z, made one from another in a set order, without chance."""
-    leaves = [("mark", name, x) for name in ("blue", "red") for x in LETTERS]
-    leaves += [("arrow", name, x, y) for name in ("likes", "none") for x, y in itertools.product(LETTERS, repeat=2)]
-    leaves += [("same", x, y) for x, y in itertools.product(LETTERS, repeat=2)] + [TRUE, FALSE]
-    pool = list(leaves)
-    at = 7
-    for step in range(1500):
-        at = (at * 1103515245 + 12345) % 2147483648
-        one = pool[(at >> 8) % len(pool)]
-        other = pool[(at >> 16) % len(pool)]
-        letter = LETTERS[(at >> 5) % 3]
-        pool.append((
-            ("not", one), ("and", (one, other)), ("or", (other, one)), ("some", letter, one), ("every", letter, other),
-            ("least", 1 + (at >> 7) % 4, letter, one), ("and", (one, other, ("not", leaves[step % len(leaves)]))),
-            ("or", (("not", other), one, leaves[step % len(leaves)])),
-        )[(at >> 20) % 8])
-        if depth_of(pool[-1]) > 4 or len(repr(pool[-1])) > 900:
-            pool.pop()
-    return pool
 
 
 class HoldsTest(unittest.TestCase):
@@ -184,7 +162,7 @@ class HoldsTest(unittest.TestCase):
             (4, (("blue", (1, 3)), ("red", (0, 1))), (("likes", ((0, 1), (1, 2), (2, 3))), ("none", ((2, 2), (3, 0))))),
         )
         told = {True: 0, False: 0}
-        for at, saying in enumerate(made_sayings()):
+        for at, saying in enumerate(made_sayings(LETTERS, (("blue", "red"), ("likes", "none")))):
             world = worlds[at % 4]
             places = {letter: (at // (k + 1)) % world[0] for k, letter in enumerate(LETTERS)}
             truth = slow_holds(world, saying, places)

@@ -1,0 +1,26 @@
+"""What is refused of worlds, numbers and points in the same way by many calls."""
+
+from pickalike.errors import NoCount, NoPoint, TooMany
+from pickalike.worlds import is_point, is_whole, need_tongue
+
+MOST_SMALL = 4
+
+
+def need_small(one, other):
+    """Refuses two worlds that are not of one tongue, then one with too many points, the first ahead of the second."""
+    need_tongue(one, other)
+    for world in (one, other):
+        if world[0] > MOST_SMALL:
+            raise TooMany(world[0])
+
+
+def need_count(told, least, most):
+    """Refuses what is no whole number between these two, they too."""
+    if not is_whole(told) or told < least or told > most:
+        raise NoCount(told)
+
+
+def need_point(point, world):
+    """Refuses what is no point of the world."""
+    if not is_point(point, world[0]):
+        raise NoPoint(point)

@@ -1,0 +1,201 @@
+"""What several tests share: worlds, sayings, and what DOC.md says of pairings, reckoned word by word."""
+
+import itertools
+
+# Things that are no whole number.
+NO_NUMBERS = (True, False, None, "0", "1", "", b"1", 1.0, 0.5, (), (0,), [], [0], {}, set(), object(), int)
+# Worlds of other tongues than that of the mark red and the arrow to.
+OTHER_TONGUES = (
+    (2, (), ()),
+    (2, (("red", ()),), ()),
+    (2, (), (("to", ()),)),
+    (2, (("blue", ()),), (("to", ()),)),
+    (2, (("red", ()),), (("at", ()),)),
+    (2, (("to", ()),), (("red", ()),)),
+    (2, (("red", ()), ("see", ())), (("to", ()),)),
+    (2, (("red", ()),), (("to", ()), ("up", ()))),
+)
+TRUE = ("and", ())
+FALSE = ("or", ())
+
+
+def numbers(seed):
+    """Numbers without end, in a set order, without chance."""
+    at = seed
+    while True:
+        at = (at * 1103515245 + 12345) % 2147483648
+        yield at >> 8
+
+
+def subsets(things, most=None):
+    """All choices of the things, those of fewer first."""
+    things = list(things)
+    most = len(things) if most is None else most
+    return [some for k in range(most + 1) for some in itertools.combinations(things, k)]
+
+
+def all_worlds(many):
+    """All worlds of so many points with one mark and one arrow."""
+    pairs = list(itertools.product(range(many), repeat=2))
+    return [
+        (many, (("red", points),), (("to", led),)) for points in subsets(range(many)) for led in subsets(pairs)
+    ]
+
+
+def made_worlds(count, sizes, tongue=(("red",), ("to",)), seed=1):
+    """Worlds of these sizes by turns, with few, some and many arrows."""
+    marks, arrows = tongue
+    told = []
+    source = numbers(seed)
+    for at in range(count):
+        many = sizes[at % len(sizes)]
+        bar = (2, 4, 6)[next(source) % 3]
+        pairs = list(itertools.product(range(many), repeat=2))
+        told.append((
+            many,
+            tuple((name, tuple(point for point in range(many) if next(source) % 8 < bar)) for name in marks),
+            tuple((name, tuple(pair for pair in pairs if next(source) % 8 < bar)) for name in arrows),
+        ))
+    return told
+
+
+def line(many):
+    """Points in a row, an arrow from each to all behind it."""
+    return (many, (), (("to", tuple(itertools.combinations(range(many), 2))),))
+
+
+def bare(many):
+    """Points without marks and arrows."""
+    return (many, (), ())
+
+
+def ring(many):
+    """Points in a ring, an arrow from each to the one behind it."""
+    return (many, (), (("to", tuple(sorted((k, (k + 1) % many) for k in range(many)))),))
+
+
+def near(world):
+    """The world with one arrow less, or with one more where it has none."""
+    pairs = world[2][0][1]
+    return (world[0], world[1], ((world[2][0][0], pairs[1:] if pairs else ((0, 0),)),) + world[2][1:])
+
+
+def couples():
+    """Couples of small worlds of one tongue: near to one another and far, of like and unlike numbers of points."""
+    told = list(itertools.product(all_worlds(1), all_worlds(1)))
+    told += [(one, other) for one, other in itertools.product(all_worlds(1), all_worlds(2)[::3])]
+    told += list(itertools.product(all_worlds(2)[::5], all_worlds(2)[::3]))
+    made = made_worlds(40, (3, 4, 2, 4, 3))
+    told += list(zip(made, made[1:])) + list(zip(made, made[5:])) + [(one, one) for one in made[:6]]
+    for shape in (line, bare, ring):
+        told += [(shape(one), shape(other)) for one, other in itertools.product(range(1, 5), repeat=2)]
+    told += [(line(one), ring(other)) for one, other in itertools.product(range(1, 5), repeat=2)]
+    told += [(one, near(one)) for one in made + [line(3), line(4), ring(3), ring(4)]]
+    wide = made_worlds(16, (4, 3), (("aa", "bb", "cc"), ("aa", "dd", "ee")), 5)
+    told += list(zip(wide, wide[1:])) + [(one, one) for one in wide[:4]]
+    for one, order in zip(made, itertools.cycle(itertools.permutations(range(4)))):
+        if one[0] == 4:
+            told.append((one, plain_moved(one, order)))
+    return told
+
+
+def plain_moved(world, order):
+    """The world moved by the order, by [6]."""
+    return (
+        world[0],
+        tuple((name, tuple(sorted(order[point] for point in points))) for name, points in world[1]),
+        tuple((name, tuple(sorted((order[a], order[b]) for a, b in pairs))) for name, pairs in world[2]),
+    )
+
+
+def plain_turns(one, other):
+    """All orders that turn the one world into the other, by [14]."""
+    if one[0] != other[0]:
+        return []
+    return [order for order in itertools.permutations(range(one[0])) if plain_moved(one, order) == other]
+
+
+def plain_fits(one, other, pairs):
+    """Whether the pairs fit, by [12]."""
+    for (a, b), (c, d) in itertools.product(pairs, repeat=2):
+        if (a == c) != (b == d):
+            return False
+        for (name, bearing), (again, there) in zip(one[1], other[1]):
+            if (a in bearing) != (b in there):
+                return False
+        for (name, led), (again, there) in zip(one[2], other[2]):
+            if ((a, c) in led) != ((b, d) in there):
+                return False
+    return True
+
+
+def plain_pairings(one, other, most):
+    """All pairings, by [13]: all sets of pairs gone through."""
+    pairs = sorted(itertools.product(range(one[0]), range(other[0])))
+    return [some for some in subsets(pairs, min(most, len(pairs))) if plain_fits(one, other, some)]
+
+
+def plain_added(pairing, pair):
+    """The pairing with this pair too, by [16]."""
+    return tuple(sorted({*pairing, pair}))
+
+
+def plain_layers(one, other, depth):
+    """The layers, by [17], each as a list in the order of [13]."""
+    told = [plain_pairings(one, other, 4)]
+    for step in range(depth):
+        last = set(told[-1])
+        told.append([
+            pairing for pairing in told[0]
+            if all(any(plain_added(pairing, (a, b)) in last for b in range(other[0])) for a in range(one[0]))
+            and all(any(plain_added(pairing, (a, b)) in last for a in range(one[0])) for b in range(other[0]))
+        ])
+    return told
+
+
+def plain_depth(saying):
+    """The depth of a saying, by [10]."""
+    if saying[0] in ("mark", "arrow", "same"):
+        return 0
+    if saying[0] in ("and", "or"):
+        return max((plain_depth(part) for part in saying[1]), default=0)
+    return plain_depth(saying[-1]) + (saying[0] != "not")
+
+
+def made_sayings(letters, tongue, steps=1500, deepest=4, plain=False):
+    """Many sayings with these letters, made one from another."""
+    marks, arrows = tongue
+    leaves = [("mark", name, x) for name in marks for x in letters]
+    leaves += [("arrow", name, x, y) for name in arrows for x, y in itertools.product(letters, repeat=2)]
+    leaves += [("same", x, y) for x, y in itertools.product(letters, repeat=2)] + [TRUE, FALSE]
+    pool = list(leaves)
+    at = 7
+    for step in range(steps):
+        at = (at * 1103515245 + 12345) % 2147483648
+        one = pool[(at >> 8) % len(pool)]
+        other = pool[(at >> 16) % len(pool)]
+        letter = letters[(at >> 5) % len(letters)]
+        leaf = leaves[step % len(leaves)]
+        counting = ("some", letter, other) if plain else ("least", 1 + (at >> 7) % 4, letter, one)
+        pool.append((
+            ("not", one), ("and", (one, other)), ("or", (other, one)), ("some", letter, one), ("every", letter, other),
+            counting, ("and", (one, other, ("not", leaf))), ("or", (("not", other), one, leaf)),
+        )[(at >> 20) % 8])
+        if plain_depth(pool[-1]) > deepest or len(repr(pool[-1])) > 900:
+            pool.pop()
+    return pool
+
+
+def refused(test, error, field, call, *things):
+    """Holds that the call with these things is refused with just this class, and with this field (None: no field)."""
+    with test.assertRaises(error, msg=repr(things)) as caught:
+        call(*things)
+    test.assertIs(type(caught.exception), error, repr(things))
+    if field is None:
+        test.assertEqual(vars(caught.exception), {}, repr(things))
+        return
+    name, thing = field
+    test.assertEqual(list(vars(caught.exception)), [name])
+    told = getattr(caught.exception, name)
+    test.assertIs(type(told), type(thing), repr(things))
+    test.assertEqual(told, thing)
