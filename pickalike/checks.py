@@ -20,7 +20,7 @@ def need_count(told, least, most):
         raise NoCount(told)
 
 
-def need_point(point, world):
-    """Refuses what is no point of the world."""
-    if not is_point(point, world[0]):
+def need_point(point, many):
+    """Refuses what is none of so many points."""
+    if not is_point(point, many):
         raise NoPoint(point)

@@ -3,7 +3,8 @@
 from pickalike.errors import NoLetter, NoName
 from pickalike.worlds import LETTERS, bears, is_name, is_whole, leads, tongue_of
 
-# For each kind of saying, by its first word: how long its tuple is, and where letters stand in it.
+# For each kind of saying, by its first word: how long its tuple is, and where letters stand in it. The rows that
+# stand within a sheet's sayings are not among them, since they are no sayings by themselves.
 LENGTHS = {"mark": 3, "arrow": 4, "same": 3, "not": 2, "and": 2, "or": 2, "some": 3, "every": 3, "least": 4}
 LETTER_PLACES = {
     "mark": (2,),
@@ -31,6 +32,8 @@ def is_letter(thing):
 
 def letters_at(saying):
     """The letters that stand in a saying itself, not in the sayings within it."""
+    if saying[0] == "row":
+        return list(saying[2])
     return [saying[place] for place in LETTER_PLACES[saying[0]]]
 
 
@@ -84,12 +87,19 @@ def parts_of(saying):
     return parts
 
 
-def depth_of(saying):
-    """How deep some, every and least stand within one another."""
-    deepest = max([depth_of(part) for part in within(saying)], default=0)
+def depth_behind(saying, earlier):
+    """How deep some, every and least stand within one another, the depths of earlier rows of a sheet being told."""
+    if saying[0] == "row":
+        return earlier[saying[1]]
+    deepest = max([depth_behind(part, earlier) for part in within(saying)], default=0)
     if saying[0] in BINDERS:
         return deepest + 1
     return deepest
+
+
+def depth_of(saying):
+    """How deep some, every and least stand within one another."""
+    return depth_behind(saying, ())
 
 
 def letters_of(saying):
@@ -134,12 +144,14 @@ class Part:
     """A saying within one that is asked of a world, and what was found of it by the points at its free letters.
 
     Without what was found, each part would be reckoned anew for each choice of points at all letters
-    round it, also at those that it doesn't speak of.
+    round it, also at those that it doesn't speak of. Of each earlier row of a sheet it is told for which
+    points it holds.
     """
 
-    def __init__(self, saying):
+    def __init__(self, saying, earlier):
         self.saying = saying
-        self.inner = [Part(one) for one in within(saying)]
+        self.inner = [Part(one, earlier) for one in within(saying)]
+        self.table = earlier[saying[1]] if saying[0] == "row" else None
         self.free = free_from(saying, [letter for part in self.inner for letter in part.free])
         self.kept = saying[0] in BINDERS and len(self.free) <= MOST_KEPT_LETTERS
         self.found = {}
@@ -179,6 +191,8 @@ def reckoned(world, part, places):
         return leads(world, saying[1], places[saying[2]], places[saying[3]])
     if word == "same":
         return places[saying[1]] == places[saying[2]]
+    if word == "row":
+        return part.table[tuple([places[letter] for letter in saying[2]])]
     if word == "not":
         return not part_holds(world, part.inner[0], places)
     if word == "and":
@@ -210,7 +224,7 @@ def holds(world, saying, places=None):
     for part in parts_of(saying):
         if not is_spoken(part, tongue):
             raise NoName(part[1])
-    asked = Part(saying)
+    asked = Part(saying, ())
     for letter in asked.free:
         if letter not in places:
             raise NoLetter(letter)

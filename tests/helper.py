@@ -2,6 +2,8 @@
 
 import itertools
 
+from pickalike.errors import NoTongue, TooMany
+
 # Things that are no whole number.
 NO_NUMBERS = (True, False, None, "0", "1", "", b"1", 1.0, 0.5, (), (0,), [], [0], {}, set(), object(), int)
 # Worlds of other tongues than that of the mark red and the arrow to.
@@ -162,6 +164,28 @@ def plain_depth(saying):
     return plain_depth(saying[-1]) + (saying[0] != "not")
 
 
+def plain_holds(world, saying, places, sheet=()):
+    """Whether a saying holds, by [8], and where it stands in a sheet by [25]; nothing is kept."""
+    word = saying[0]
+    if word == "mark":
+        return places[saying[2]] in dict(world[1])[saying[1]]
+    if word == "arrow":
+        return (places[saying[2]], places[saying[3]]) in dict(world[2])[saying[1]]
+    if word == "same":
+        return places[saying[1]] == places[saying[2]]
+    if word == "row":
+        letters, inner = sheet[saying[1]]
+        return plain_holds(world, inner, {letter: places[one] for letter, one in zip(letters, saying[2])}, sheet)
+    if word == "not":
+        return not plain_holds(world, saying[1], places, sheet)
+    if word in ("and", "or"):
+        truths = [plain_holds(world, part, places, sheet) for part in saying[1]]
+        return all(truths) if word == "and" else any(truths)
+    letter, inner = saying[-2:]
+    many = sum(plain_holds(world, inner, {**places, letter: point}, sheet) for point in range(world[0]))
+    return many >= {"some": 1, "every": world[0]}.get(word, saying[1])
+
+
 def made_sayings(letters, tongue, steps=1500, deepest=4, plain=False):
     """Many sayings with these letters, made one from another."""
     marks, arrows = tongue
@@ -199,3 +223,33 @@ def refused(test, error, field, call, *things):
     told = getattr(caught.exception, name)
     test.assertIs(type(told), type(thing), repr(things))
     test.assertEqual(told, thing)
+
+
+def plain_parts(saying):
+    """A saying and all within it, each with how deep it stands in there, counted from 1."""
+    told = [(saying, 1)]
+    for one, deep in told:
+        inner = one[1] if one[0] in ("and", "or") else one[-1:] if one[0] in ("not", "some", "every", "least") else ()
+        told.extend((part, deep + 1) for part in inner)
+    return told
+
+
+def small_in_size(test, saying):
+    """Holds that a saying, or that of a sheet's row, has at most 2000 parts, no more than 40 within one another."""
+    told = plain_parts(saying)
+    test.assertLessEqual(len(told), 2000)
+    test.assertLessEqual(max(deep for part, deep in told), 40)
+
+
+def worlds_refused(test, call):
+    """Holds that a call of two worlds, that may hand in wrong things behind them, refuses them in their order."""
+    world = (2, (("red", ()),), (("to", ()),))
+    for other in OTHER_TONGUES + tuple((6,) + other[1:] for other in OTHER_TONGUES):
+        for one in (world, (5,) + world[1:]):
+            refused(test, NoTongue, None, call, one, other)
+            refused(test, NoTongue, None, call, other, one)
+    for many in (5, 6, 7, 8):
+        refused(test, TooMany, ("many", many), call, bare(many), bare(4))
+        refused(test, TooMany, ("many", many), call, bare(1), bare(many))
+        refused(test, TooMany, ("many", many), call, bare(many), bare(13 - many))
+        refused(test, TooMany, ("many", many), call, bare(many), bare(many))

@@ -3,7 +3,7 @@
 import itertools
 import unittest
 
-from helper import FALSE, TRUE, made_sayings
+from helper import FALSE, TRUE, made_sayings, plain_holds
 
 from pickalike.errors import NoLetter, NoName
 from pickalike.sayings import depth_of, free_of, holds, is_saying
@@ -11,25 +11,6 @@ from pickalike.sayings import depth_of, free_of, holds, is_saying
 WORLD = (3, (("blue", ()), ("red", (0, 2))), (("likes", ((0, 1), (1, 1), (1, 2))), ("none", ())))
 MARK = ("mark", "red", "x")
 LETTERS = "xyz"
-
-
-def slow_holds(world, saying, places):
-    """What DOC.md says of each kind, word by word."""
-    word = saying[0]
-    if word == "mark":
-        return places[saying[2]] in dict(world[1])[saying[1]]
-    if word == "arrow":
-        return (places[saying[2]], places[saying[3]]) in dict(world[2])[saying[1]]
-    if word == "same":
-        return places[saying[1]] == places[saying[2]]
-    if word == "not":
-        return not slow_holds(world, saying[1], places)
-    if word in ("and", "or"):
-        truths = [slow_holds(world, part, places) for part in saying[1]]
-        return all(truths) if word == "and" else any(truths)
-    letter, inner = saying[-2:]
-    many = sum(slow_holds(world, inner, {**places, letter: point}) for point in range(world[0]))
-    return many >= {"some": 1, "every": world[0]}.get(word, saying[1])
 
 
 class HoldsTest(unittest.TestCase):
@@ -165,7 +146,7 @@ class HoldsTest(unittest.TestCase):
         for at, saying in enumerate(made_sayings(LETTERS, (("blue", "red"), ("likes", "none")))):
             world = worlds[at % 4]
             places = {letter: (at // (k + 1)) % world[0] for k, letter in enumerate(LETTERS)}
-            truth = slow_holds(world, saying, places)
+            truth = plain_holds(world, saying, places)
             self.assertIs(holds(world, saying, places), truth, repr(saying))
             told[truth] += 1
             few = {letter: places[letter] for letter in free_of(saying)}

@@ -4,10 +4,10 @@ import functools
 import itertools
 import unittest
 
-from helper import NO_NUMBERS, OTHER_TONGUES, all_worlds, bare, couples, line, made_sayings, made_worlds, near
-from helper import plain_added, plain_depth, plain_fits, plain_layers, plain_turns, refused, ring, subsets
+from helper import NO_NUMBERS, all_worlds, bare, couples, line, made_sayings, near, plain_added, plain_depth
+from helper import plain_fits, plain_layers, plain_turns, refused, ring, subsets, worlds_refused
 
-from pickalike.errors import NoCount, NoPoint, NoTongue, TooMany
+from pickalike.errors import NoCount, NoPoint
 from pickalike.layers import answers, layers, parted
 from pickalike.sayings import free_of, holds, is_plain
 from pickalike.worlds import tongue_of
@@ -302,20 +302,9 @@ class RefusedTest(unittest.TestCase):
         lambda one, other: answers(one, other, True, None, True, True),
     )
 
-    def test_no_tongue_ahead_of_all_else(self):
+    def test_worlds_ahead_of_all_else(self):
         for call in self.calls:
-            for other in OTHER_TONGUES + tuple((6,) + other[1:] for other in OTHER_TONGUES):
-                for world in (WORLD, (5,) + WORLD[1:]):
-                    refused(self, NoTongue, None, call, world, other)
-                    refused(self, NoTongue, None, call, other, world)
-
-    def test_too_many_ahead_of_no_count(self):
-        for call in self.calls:
-            for many in (5, 6, 7, 8):
-                refused(self, TooMany, ("many", many), call, bare(many), bare(4))
-                refused(self, TooMany, ("many", many), call, bare(1), bare(many))
-                refused(self, TooMany, ("many", many), call, bare(many), bare(13 - many))
-                refused(self, TooMany, ("many", many), call, bare(many), bare(many))
+            worlds_refused(self, call)
 
     def test_depths(self):
         for depth in BAD_DEPTHS:

@@ -3,10 +3,9 @@
 import itertools
 import unittest
 
-from helper import OTHER_TONGUES, all_worlds, bare, couples, line, made_worlds, plain_fits, plain_moved, plain_turns
-from helper import refused, ring, subsets
+from helper import all_worlds, bare, couples, line, made_worlds, plain_fits, plain_moved, plain_turns, ring, subsets
+from helper import worlds_refused
 
-from pickalike.errors import NoTongue, TooMany
 from pickalike.turns import turning
 from pickalike.worlds import moved
 
@@ -90,17 +89,9 @@ class TurningTest(unittest.TestCase):
         self.assertIsNone(turning(bare(4), bare(4), tuple(itertools.product(range(4), repeat=2)) * 100))
 
     def test_refused(self):
-        world = (2, (("red", ()),), (("to", ()),))
         for pairs in (None, (), ((0, 0),), ((0, 0), (0, 1))):
-            for other in OTHER_TONGUES + tuple((6,) + other[1:] for other in OTHER_TONGUES):
-                for one in (world, (5,) + world[1:]):
-                    refused(self, NoTongue, None, turning, one, other, pairs)
-                    refused(self, NoTongue, None, turning, other, one, pairs)
-            for many in (5, 6, 7, 8):
-                refused(self, TooMany, ("many", many), turning, bare(many), bare(4), pairs)
-                refused(self, TooMany, ("many", many), turning, bare(3), bare(many), pairs)
-                refused(self, TooMany, ("many", many), turning, bare(many), bare(13 - many), pairs)
-                refused(self, TooMany, ("many", many), turning, bare(many), bare(many), pairs)
+            worlds_refused(self, lambda one, other: turning(one, other, pairs))
+        worlds_refused(self, turning)
 
 
 if __name__ == "__main__":
