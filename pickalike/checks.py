@@ -6,12 +6,17 @@ from pickalike.worlds import is_point, is_whole, need_tongue
 MOST_SMALL = 4
 
 
+def need_few_points(worlds):
+    """Refuses the first of the worlds with too many points."""
+    for world in worlds:
+        if world[0] > MOST_SMALL:
+            raise TooMany(world[0])
+
+
 def need_small(one, other):
     """Refuses two worlds that are not of one tongue, then one with too many points, the first ahead of the second."""
     need_tongue(one, other)
-    for world in (one, other):
-        if world[0] > MOST_SMALL:
-            raise TooMany(world[0])
+    need_few_points((one, other))
 
 
 def need_count(told, least, most):

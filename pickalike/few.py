@@ -12,7 +12,7 @@ def parts_below(pairing, letters):
     """The parts of a pairing that have fewer pairs than there are letters, those of fewer pairs first."""
     told = [()]
     for pair in pairing:
-        told.extend([part + (pair,) for part in told])
+        told = told + [part + (pair,) for part in told]
     return sorted([part for part in told if len(part) < letters], key=len)
 
 

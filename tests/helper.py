@@ -3,7 +3,12 @@
 import itertools
 
 from pickalike.errors import NoTongue, TooMany
+from pickalike.sayings import free_of, holds, is_saying, speaks
+from pickalike.worlds import tongue_of
 
+LETTERS = "abcdefghijklmnopqrstuvwxyz"
+# The tongue of most worlds here.
+MARKED = (("red",), ("to",))
 # Things that are no whole number.
 NO_NUMBERS = (True, False, None, "0", "1", "", b"1", 1.0, 0.5, (), (0,), [], [0], {}, set(), object(), int)
 # Worlds of other tongues than that of the mark red and the arrow to.
@@ -19,6 +24,15 @@ OTHER_TONGUES = (
 )
 TRUE = ("and", ())
 FALSE = ("or", ())
+# Couples that are parted by counting at the depth 3 and not ahead of it.
+DEEP_COUNTED = tuple(
+    tuple((4, (), (("to", pairs),)) for pairs in couple) for couple in (
+        (((0, 3), (1, 2), (1, 3), (2, 0)), ((0, 3), (1, 3), (2, 0), (2, 1))),
+        (((0, 1), (1, 2), (1, 3), (2, 0), (3, 0)), ((0, 1), (0, 2), (1, 3), (2, 1), (3, 0))),
+        (((0, 1), (0, 2), (1, 2), (1, 3), (2, 0), (2, 3), (3, 0)),
+         ((0, 1), (0, 2), (1, 2), (1, 3), (2, 1), (2, 3), (3, 0))),
+    )
+)
 
 
 def numbers(seed):
@@ -44,7 +58,7 @@ def all_worlds(many):
     ]
 
 
-def made_worlds(count, sizes, tongue=(("red",), ("to",)), seed=1):
+def made_worlds(count, sizes, tongue=MARKED, seed=1):
     """Worlds of these sizes by turns, with few, some and many arrows."""
     marks, arrows = tongue
     told = []
@@ -74,6 +88,22 @@ def bare(many):
 def ring(many):
     """Points in a ring, an arrow from each to the one behind it."""
     return (many, (), (("to", tuple(sorted((k, (k + 1) % many) for k in range(many)))),))
+
+
+def full(many):
+    """Points with arrows from each to each other one."""
+    return (many, (), (("to", tuple(itertools.permutations(range(many), 2))),))
+
+
+def looped(many):
+    """Points that all bear a mark, with an arrow from each to itself."""
+    return (many, (("red", tuple(range(many))),), (("to", tuple((k, k) for k in range(many))),))
+
+
+def deep_couples():
+    """Couples that are parted at the depth 4 and not ahead of it."""
+    made = [(shape(3), shape(4)) for shape in (bare, full, looped)]
+    return made + [(other, one) for one, other in made]
 
 
 def near(world):
@@ -155,6 +185,15 @@ def plain_layers(one, other, depth):
     return told
 
 
+def plain_parted(layers, pairs):
+    """Where pairs are parted, by [18], of all layers up to one that is the same as the one ahead of it."""
+    pairing = tuple(sorted(set(pairs or ())))
+    for depth, layer in enumerate(layers):
+        if pairing not in layer:
+            return depth
+    return None
+
+
 def plain_depth(saying):
     """The depth of a saying, by [10]."""
     if saying[0] in ("mark", "arrow", "same"):
@@ -210,6 +249,56 @@ def made_sayings(letters, tongue, steps=1500, deepest=4, plain=False):
     return pool
 
 
+def marked_couples(layers_of_couple):
+    """Couples of worlds with one mark and one arrow, those with the most pairings in the layers that are told."""
+    made = [(one, other) for one, other in couples() if tongue_of(one) == MARKED]
+    unmarked = [(shape[0], (("red", ()),), shape[2]) for shape in
+                (line(2), line(3), line(4), ring(3), ring(4), near(ring(4)))]
+    made += list(itertools.product(unmarked, repeat=2))
+    made.sort(key=lambda couple: -sum(len(layer) for layer in layers_of_couple(*couple)))
+    return made[:60]
+
+
+def letters_at_pairs(pairing):
+    """The pairs by letters in two ways: a letter for each pair, then each of four letters at one of them."""
+    told = [dict(zip(LETTERS, pairing))]
+    if pairing:
+        told.append({letter: pairing[k % len(pairing)] for k, letter in enumerate(LETTERS[:4])})
+    return told
+
+
+def agreeing(test, chosen, layers, pool):
+    """Holds that pairings in a layer, told by layers(one, other, 4), agree on the sayings of the pool of its depth.
+
+    Tells how often that was compared, by the depth of the saying, and how often others did not agree.
+    """
+    asked = [(at, saying, plain_depth(saying), free_of(saying)) for at, saying in enumerate(pool)]
+    kept = {}
+
+    def truth(world, at, saying, free, points):
+        if (world, at, points) not in kept:
+            kept[world, at, points] = holds(world, saying, dict(zip(free, points)))
+        return kept[world, at, points]
+
+    compared = [0] * 5
+    parts = 0
+    for turn, (one, other) in enumerate(chosen):
+        told = layers(one, other, 4)
+        deep = [set(layer) for layer in told]
+        for pairing, (at, saying, depth, free) in itertools.product(told[0], asked[turn % 3::3]):
+            for places in letters_at_pairs(pairing):
+                if not all(letter in places for letter in free):
+                    continue
+                here = truth(one, at, saying, free, tuple(places[letter][0] for letter in free))
+                there = truth(other, at, saying, free, tuple(places[letter][1] for letter in free))
+                if pairing in deep[depth]:
+                    test.assertIs(here, there, (one, other, pairing, saying))
+                    compared[depth] += 1
+                else:
+                    parts += here != there
+    return compared, parts
+
+
 def refused(test, error, field, call, *things):
     """Holds that the call with these things is refused with just this class, and with this field (None: no field)."""
     with test.assertRaises(error, msg=repr(things)) as caught:
@@ -239,6 +328,48 @@ def small_in_size(test, saying):
     told = plain_parts(saying)
     test.assertLessEqual(len(told), 2000)
     test.assertLessEqual(max(deep for part, deep in told), 40)
+
+
+def saying_parts(test, one, other, pairs, saying, depth):
+    """Holds that a saying of the depth parts the pairs, by [20] but for its being plain; for None it is None."""
+    words = (one, other, pairs, saying)
+    if depth is None:
+        test.assertIsNone(saying, words)
+        return
+    test.assertTrue(is_saying(saying), words)
+    test.assertEqual(plain_depth(saying), depth, words)
+    test.assertTrue(speaks(saying, tongue_of(one)), words)
+    told = pairs or ()
+    test.assertLessEqual(set(free_of(saying)), set(LETTERS[:len(told)]), words)
+    test.assertIs(holds(one, saying, {letter: a for letter, (a, b) in zip(LETTERS, told)}), True, words)
+    test.assertIs(holds(other, saying, {letter: b for letter, (a, b) in zip(LETTERS, told)}), False, words)
+    small_in_size(test, saying)
+
+
+def up_to_eight_pairs(one, other, source):
+    """Pairs of two worlds, none to eight of them, fitting or not, some twice, in any order."""
+    told = []
+    for length in range(9):
+        told.append(tuple((next(source) % one[0], next(source) % other[0]) for k in range(length)))
+        for some in [some for some in plain_pairings(one, other, 4) if some][:7 * length:7]:
+            told.append(tuple(some[next(source) % len(some)] for k in range(length)))
+    return told
+
+
+def lists_of_their_own(test, call, right):
+    """Holds that of the lists which a call tells a change of one changes none of the others and none told again."""
+    kept = [list(row) for row in right]
+    for at in range(len(kept)):
+        told = call()
+        test.assertEqual(told, kept)
+        told[at].append("more")
+        told[at].reverse()
+        for place in range(len(kept)):
+            if place != at:
+                test.assertEqual(told[place], kept[place])
+        told[at].clear()
+        del told[0]
+        test.assertEqual(call(), kept)
 
 
 def worlds_refused(test, call):

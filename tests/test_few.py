@@ -4,8 +4,9 @@ import functools
 import itertools
 import unittest
 
-from helper import NO_NUMBERS, all_worlds, bare, couples, line, made_sayings, made_worlds, near, plain_added
-from helper import plain_pairings, plain_parts, plain_turns, refused, ring, small_in_size, subsets, worlds_refused
+from helper import NO_NUMBERS, all_worlds, bare, couples, line, lists_of_their_own, made_sayings, made_worlds, near
+from helper import plain_added, plain_pairings, plain_parts, plain_turns, refused, ring, small_in_size, subsets
+from helper import worlds_refused
 
 from pickalike.errors import NoCount
 from pickalike.few import few_parting, few_rounds
@@ -98,17 +99,7 @@ class RoundsTest(unittest.TestCase):
     def test_the_lists_are_of_their_own(self):
         for one, other in couples()[::31] + [(bare(3), bare(4)), (line(3), line(4)), (bare(2), bare(2))]:
             for letters in (1, 2, 3):
-                kept = [list(one_round) for one_round in plain_rounds(one, other, letters)]
-                for at in range(len(kept)):
-                    told = few_rounds(one, other, letters)
-                    told[at].append("more")
-                    told[at].reverse()
-                    for place in range(len(kept)):
-                        if place != at:
-                            self.assertEqual(told[place], kept[place])
-                    told[at].clear()
-                    del told[0]
-                    self.assertEqual(few_rounds(one, other, letters), kept)
+                lists_of_their_own(self, lambda: few_rounds(one, other, letters), plain_rounds(one, other, letters))
 
 
 class PartingTest(unittest.TestCase):

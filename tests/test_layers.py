@@ -4,13 +4,13 @@ import functools
 import itertools
 import unittest
 
-from helper import NO_NUMBERS, all_worlds, bare, couples, line, made_sayings, near, plain_added, plain_depth
-from helper import plain_fits, plain_layers, plain_turns, refused, ring, subsets, worlds_refused
+from helper import MARKED, NO_NUMBERS, agreeing, all_worlds, bare, couples, line, lists_of_their_own, made_sayings
+from helper import marked_couples, near, plain_added, plain_fits, plain_layers, plain_parted, plain_turns, refused, ring
+from helper import subsets, worlds_refused
 
 from pickalike.errors import NoCount, NoPoint
 from pickalike.layers import answers, layers, parted
-from pickalike.sayings import free_of, holds, is_plain
-from pickalike.worlds import tongue_of
+from pickalike.sayings import is_plain
 
 BAD_DEPTHS = (-1, 7, -2, 8, 10 ** 300, -(10 ** 300)) + NO_NUMBERS
 WORLD = (2, (("red", ()),), (("to", ()),))
@@ -20,15 +20,6 @@ WORLD = (2, (("red", ()),), (("to", ()),))
 def plain(one, other):
     """The layers up to 7 by a plain going through, kept for the next test."""
     return plain_layers(one, other, 7)
-
-
-def plain_parted(one, other, pairs):
-    """Where pairs are parted, by [18]."""
-    pairing = tuple(sorted(set(pairs)))
-    for depth, layer in enumerate(plain(one, other)):
-        if pairing not in layer:
-            return depth
-    return None
 
 
 class LayersTest(unittest.TestCase):
@@ -80,20 +71,9 @@ class LayersTest(unittest.TestCase):
 
     def test_the_lists_are_of_their_own(self):
         for one, other in couples()[::11] + [(bare(2), bare(2)), (line(4), line(4))]:
-            kept = [list(layer) for layer in layers(one, other, 6)]
-            for at in range(7):
-                told = layers(one, other, 6)
-                told[at].append("more")
-                told[at].reverse()
-                for place in range(7):
-                    if place != at:
-                        self.assertEqual(told[place], kept[place])
-                told[at].clear()
-                del told[2:]
-                self.assertEqual(layers(one, other, 6), kept)
-            layers(one, other, 0)[0].clear()
-            self.assertEqual(layers(one, other, 0), kept[:1])
-            self.assertEqual(parted(one, other), plain_parted(one, other, ()))
+            for depth in (0, 2, 6):
+                lists_of_their_own(self, lambda: layers(one, other, depth), plain(one, other)[:depth + 1])
+            self.assertEqual(parted(one, other), plain_parted(plain(one, other), ()))
 
     def test_turned_about(self):
         for one, other in couples()[::4]:
@@ -107,7 +87,7 @@ class PartedTest(unittest.TestCase):
         for one, other in couples():
             for pairing in plain(one, other)[0]:
                 depth = parted(one, other, pairing)
-                self.assertEqual(depth, plain_parted(one, other, pairing), (one, other, pairing))
+                self.assertEqual(depth, plain_parted(plain(one, other), pairing), (one, other, pairing))
                 told[depth] = told.get(depth, 0) + 1
         self.assertEqual(set(told), {1, 2, 3, 4, None})
 
@@ -136,14 +116,14 @@ class PartedTest(unittest.TestCase):
     def test_pairs_in_any_order_and_twice(self):
         for one, other in couples()[::6]:
             for pairing in plain(one, other)[0]:
-                depth = plain_parted(one, other, pairing)
+                depth = plain_parted(plain(one, other), pairing)
                 self.assertEqual(parted(one, other, pairing[::-1]), depth)
                 self.assertEqual(parted(one, other, pairing + pairing), depth)
                 self.assertEqual(parted(one, other, (pairing[1:] + pairing[:1] + pairing[::-1]) * 3), depth)
 
     def test_none_and_left_out(self):
         for one, other in couples():
-            depth = plain_parted(one, other, ())
+            depth = plain_parted(plain(one, other), ())
             self.assertEqual(parted(one, other), depth)
             self.assertEqual(parted(one, other, None), depth)
             self.assertEqual(parted(one, other, ()), depth)
@@ -168,8 +148,8 @@ class AnswersTest(unittest.TestCase):
 
     def test_each_side_and_each_point(self):
         lengths = set()
-        for one, other in couples()[::3]:
-            for pairing, depth, side in itertools.product(plain(one, other)[0], (0, 1, 2, 3, 6), (0, 1)):
+        for one, other in couples()[::10] + [(bare(4), bare(4))]:
+            for pairing, depth, side in itertools.product(plain(one, other)[0][:60], (0, 1, 2, 3, 6), (0, 1)):
                 for point in range((one, other)[side][0]):
                     told = answers(one, other, depth, pairing, side, point)
                     self.assertIsInstance(told, list)
@@ -218,7 +198,7 @@ class AnswersTest(unittest.TestCase):
             self.assertEqual(answers((1, (("red", ()),), ()), (1, (("red", (0,)),), ()), depth, (), 0, 0), [])
 
     def test_in_the_next_layer_every_point_is_answered(self):
-        for one, other in couples()[::5]:
+        for one, other in couples()[::15]:
             told = layers(one, other, 6)
             for depth, pairing in [(depth, pairing) for depth in range(6) for pairing in told[0]]:
                 found = [answers(one, other, depth, pairing, 0, point) for point in range(one[0])]
@@ -241,50 +221,10 @@ class AnswersTest(unittest.TestCase):
 class AgreeingTest(unittest.TestCase):
     """What holds of pairings in a layer by [19]."""
 
-    letters = "abcd"
-    tongue = (("red",), ("to",))
-
-    def places(self, pairing):
-        """The letters at the first points and at the second ones: a letter for each pair, then each letter at one."""
-        told = [dict(zip(self.letters, pairing))]
-        if pairing:
-            told.append({letter: pairing[k % len(pairing)] for k, letter in enumerate(self.letters)})
-        return told
-
-    def chosen(self):
-        """Couples of worlds of the tongue, those with the most pairings in deep layers."""
-        made = [(one, other) for one, other in couples() if tongue_of(one) == self.tongue]
-        unmarked = [(shape[0], (("red", ()),), shape[2]) for shape in
-                    (line(2), line(3), line(4), ring(3), ring(4), near(ring(4)))]
-        made += list(itertools.product(unmarked, repeat=2))
-        made.sort(key=lambda couple: -sum(len(layer) for layer in plain(*couple)[1:5]))
-        return made[:60]
-
     def test_plain_sayings(self):
-        pool = [(saying, plain_depth(saying), free_of(saying)) for saying in
-                made_sayings(self.letters, self.tongue, 900, 4, plain=True)]
-        asked = functools.lru_cache(maxsize=None)(
-            lambda world, saying, places: holds(world, saying, dict(places)))
-        compared = [0] * 5
-        parts = 0
-        for turn, (one, other) in enumerate(self.chosen()):
-            told = layers(one, other, 4)
-            for pairing, (at, (saying, depth, free)) in itertools.product(told[0], enumerate(pool)):
-                if (at + turn) % 5 and depth < 3:
-                    continue
-                for places in self.places(pairing):
-                    if any(letter not in places for letter in free):
-                        continue
-                    truth, there = [
-                        asked(world, saying, tuple((letter, places[letter][side]) for letter in free))
-                        for side, world in enumerate((one, other))
-                    ]
-                    if pairing in told[depth]:
-                        self.assertIs(truth, there, (one, other, pairing, saying))
-                        compared[depth] += 1
-                    else:
-                        parts += truth != there
-        self.assertTrue(all(is_plain(saying) for saying, depth, free in pool))
+        pool = made_sayings("abcd", MARKED, 900, 4, plain=True)
+        self.assertTrue(all(is_plain(saying) for saying in pool))
+        compared, parts = agreeing(self, marked_couples(lambda one, other: plain(one, other)[1:5]), layers, pool)
         self.assertGreater(min(compared), 1000)
         # The sayings are such that they part pairings, where these aren't in the layer.
         self.assertGreater(parts, 1000)

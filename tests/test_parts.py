@@ -3,50 +3,20 @@
 import itertools
 import unittest
 
-from helper import all_worlds, bare, couples, line, made_worlds, near, numbers, plain_depth, plain_pairings
-from helper import plain_turns, ring, small_in_size, subsets, worlds_refused
+from helper import all_worlds, bare, couples, deep_couples, line, made_worlds, near, numbers, plain_depth
+from helper import plain_pairings, plain_turns, ring, saying_parts, subsets, up_to_eight_pairs, worlds_refused
 
 from pickalike.layers import layers, parted
 from pickalike.parts import parting
-from pickalike.sayings import free_of, holds, is_plain, is_saying, speaks
-from pickalike.worlds import tongue_of
-
-LETTERS = "abcdefghijklmnopqrstuvwxyz"
-
-
-def full(many):
-    """Points with arrows from each to each other one."""
-    return (many, (), (("to", tuple(itertools.permutations(range(many), 2))),))
-
-
-def looped(many):
-    """Points that all bear a mark, with an arrow from each to itself."""
-    return (many, (("red", tuple(range(many))),), (("to", tuple((k, k) for k in range(many))),))
-
-
-def deep_couples():
-    """Couples that are parted at the depth 4 and not ahead of it."""
-    made = [(shape(3), shape(4)) for shape in (bare, full, looped)]
-    return made + [(other, one) for one, other in made]
+from pickalike.sayings import is_plain
 
 
 class PartingTest(unittest.TestCase):
     def check(self, one, other, pairs, depth):
         """Holds that the pairs are parted by a saying of the depth, or by none where that is None; tells the saying."""
         saying = parting(one, other, pairs)
-        words = (one, other, pairs, saying)
-        if depth is None:
-            self.assertIsNone(saying, words)
-            return None
-        self.assertTrue(is_saying(saying), words)
-        self.assertTrue(is_plain(saying), words)
-        self.assertEqual(plain_depth(saying), depth, words)
-        self.assertTrue(speaks(saying, tongue_of(one)), words)
-        told = pairs or ()
-        self.assertLessEqual(set(free_of(saying)), set(LETTERS[:len(told)]), words)
-        self.assertIs(holds(one, saying, {letter: a for letter, (a, b) in zip(LETTERS, told)}), True, words)
-        self.assertIs(holds(other, saying, {letter: b for letter, (a, b) in zip(LETTERS, told)}), False, words)
-        small_in_size(self, saying)
+        saying_parts(self, one, other, pairs, saying, depth)
+        self.assertTrue(saying is None or is_plain(saying))
         return saying
 
     def test_no_pairs(self):
@@ -127,15 +97,10 @@ class PartingTest(unittest.TestCase):
         found = {}
         worlds = couples()[::4] + deep_couples() + [(world, world) for world in (bare(4), ring(4), line(2))]
         for one, other in worlds:
-            for length in range(9):
-                pairs = tuple((next(source) % one[0], next(source) % other[0]) for k in range(length))
-                self.check(one, other, pairs, parted(one, other, pairs))
-                pairing = [some for some in plain_pairings(one, other, 4) if some][:7 * length:7]
-                for some in pairing:
-                    pairs = tuple(some[next(source) % len(some)] for k in range(length))
-                    depth = parted(one, other, pairs)
-                    self.check(one, other, pairs, depth)
-                    found[length, depth] = found.get((length, depth), 0) + 1
+            for pairs in up_to_eight_pairs(one, other, source):
+                depth = parted(one, other, pairs)
+                self.check(one, other, pairs, depth)
+                found[len(pairs), depth] = found.get((len(pairs), depth), 0) + 1
         for length in range(1, 9):
             self.assertGreater(found[length, 1], 10)
             self.assertGreater(found[length, None], 10)
